@@ -1,0 +1,1 @@
+"""Undivide: reckonings by rows, made anew in other forms."""
