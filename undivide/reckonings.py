@@ -18,7 +18,7 @@ def is_letter(thing):
 
 def are_letters(things):
     """Whether a tuple is one to three unlike names of letters."""
-    if not isinstance(things, tuple) or len(things) not in range(1, MOST_LETTERS + 1):
+    if not isinstance(things, tuple) or not 1 <= len(things) <= MOST_LETTERS:
         return False
     return all([is_letter(thing) for thing in things]) and len(set(things)) == len(things)
 
