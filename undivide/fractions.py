@@ -2,6 +2,9 @@
 
 from undivide.errors import BadText
 
+NOUGHT = (0, 1)
+ONE = (1, 1)
+
 
 def is_number(thing):
     """Whether a thing is a whole number; truths are none."""
@@ -33,24 +36,38 @@ def fraction(n, d):
     return (n // factor, d // factor)
 
 
+def added(one, above, beneath):
+    """The sum of a fraction and of another one in two numbers."""
+    # Common factors of the parts are looked for ahead of the sum, where numbers are smaller.
+    factor = common_factor(one[1], beneath)
+    total = one[0] * (beneath // factor) + above * (one[1] // factor)
+    left = common_factor(abs(total), factor)
+    return (total // left, one[1] // factor * (beneath // left))
+
+
 def plus(one, other):
     """The sum of two fractions."""
-    return fraction(one[0] * other[1] + other[0] * one[1], one[1] * other[1])
+    return added(one, other[0], other[1])
 
 
 def less(one, other):
     """The first fraction less the second."""
-    return fraction(one[0] * other[1] - other[0] * one[1], one[1] * other[1])
+    return added(one, -other[0], other[1])
 
 
 def times(one, other):
     """The product of two fractions."""
-    return fraction(one[0] * other[0], one[1] * other[1])
+    # Neither has a common factor of its own, so each one's above is held against the other's beneath.
+    first = common_factor(abs(one[0]), other[1])
+    second = common_factor(abs(other[0]), one[1])
+    return (one[0] // first * (other[0] // second), one[1] // second * (other[1] // first))
 
 
 def over(one, other):
     """The first fraction divided by the second, which is not nought."""
-    return fraction(one[0] * other[1], one[1] * other[0])
+    if other[0] < 0:
+        return times(one, (-other[1], -other[0]))
+    return times(one, (other[1], other[0]))
 
 
 def fraction_text(f):

@@ -1,7 +1,10 @@
 """Reckonings run on quotients of polynomials, and the points at which nothing is divided by nought."""
 
 from undivide.errors import NoOver
+from undivide.forms import form_less, form_plus, fractions_of, letter_by_powers, number_by_powers, times_by_powers
+from undivide.fractions import ONE
 from undivide.polys import gathered, parted_by, poly_less, poly_plus, poly_times
+from undivide.reckonings import is_whole, pruned
 from undivide.running import run
 
 
@@ -32,7 +35,7 @@ def made_quotient(word, one, other):
 def quotients(reckoning):
     """A list of all rows' pairs (above, beneath); refused with NoOver at the first row over nought."""
     letters, rows = reckoning
-    one = number_poly((1, 1), len(letters))
+    one = number_poly(ONE, len(letters))
     told = []
     for at, row in enumerate(rows):
         word = row[0]
@@ -47,8 +50,34 @@ def quotients(reckoning):
     return told
 
 
+def whole_form(row, forms, many_letters):
+    """The form by powers of a row that is no over, by those of the rows ahead."""
+    word, one = row[0], row[1]
+    if word == "number":
+        return number_by_powers(one, many_letters)
+    if word == "letter":
+        return letter_by_powers(one, many_letters)
+    if word == "plus":
+        return form_plus(forms[one], forms[row[2]])
+    if word == "less":
+        return form_less(forms[one], forms[row[2]])
+    return times_by_powers(forms[one], forms[row[2]])
+
+
+def whole_polynomial(reckoning):
+    """The polynomial that a reckoning without quotients comes to."""
+    letters, rows = pruned(reckoning)
+    # Such reckonings may have thousands of rows: forms spare them all but the last row's lowest terms.
+    forms = []
+    for row in rows:
+        forms.append(whole_form(row, forms, len(letters)))
+    return tuple(fractions_of(forms[-1]))
+
+
 def polynomial_of(reckoning):
     """The polynomial that a reckoning comes to, or None where it comes to none."""
+    if is_whole(reckoning):
+        return whole_polynomial(reckoning)
     above, beneath = quotients(reckoning)[-1]
     return parted_by(above, beneath)
 

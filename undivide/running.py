@@ -1,7 +1,7 @@
 """Reckonings run at a point."""
 
 from undivide.errors import NoOver
-from undivide.fractions import less, over, plus, times
+from undivide.fractions import NOUGHT, less, over, plus, times
 
 
 def made_value(word, one, other):
@@ -25,7 +25,7 @@ def run(reckoning, point):
             told.append(row[1])
         elif word == "letter":
             told.append(point[row[1]])
-        elif word == "over" and told[row[2]] == (0, 1):
+        elif word == "over" and told[row[2]] == NOUGHT:
             raise NoOver(at)
         else:
             told.append(made_value(word, told[row[1]], told[row[2]]))
