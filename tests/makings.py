@@ -8,6 +8,14 @@ from undivide.running import run
 
 NAMES = ("x", "y", "z")
 WORDS = ("plus", "less", "times", "over")
+# As many rows as are asked for, most of them needed, with great fractions.
+MANY = (NAMES, (
+    ("letter", 0), ("letter", 1), ("letter", 2), ("number", (999983, 999979)), ("plus", 0, 3), ("plus", 4, 1),
+    ("plus", 5, 2), ("over", 6, 5), ("less", 6, 4), ("over", 8, 7), ("times", 7, 5), ("plus", 10, 3), ("over", 11, 9),
+    ("over", 9, 4), ("plus", 10, 9), ("over", 14, 7), ("over", 15, 10), ("plus", 16, 8), ("times", 17, 5),
+    ("plus", 16, 11), ("over", 17, 12), ("over", 20, 11), ("less", 18, 5), ("times", 20, 7),
+))
+MANY_POINT = ((-997, 991), (983, 977), (971, 967))
 
 
 def fits(letters, rows, most_weight):

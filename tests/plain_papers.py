@@ -6,6 +6,7 @@ import algebra
 
 
 def plain_run(reckoning, point):
+    """All rows' values by Python's own fractions."""
     values = []
     for word, *things in reckoning[1]:
         if word == "number":

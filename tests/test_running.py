@@ -6,27 +6,13 @@ from fractions import Fraction
 from random import Random
 
 import algebra
+from plain_papers import plain_run
 from undivide.errors import NoOver
 from undivide.running import run
 
 ALL_WORDS = (("x", "y"), (
     ("letter", 0), ("number", (-3, 4)), ("plus", 0, 1), ("letter", 1), ("less", 2, 3), ("times", 4, 4), ("over", 3, 5),
 ))
-
-
-def plain_run(reckoning, point):
-    """All rows' values by Python's own fractions."""
-    values = []
-    for word, *things in reckoning[1]:
-        if word == "number":
-            values.append(Fraction(*things[0]))
-        elif word == "letter":
-            values.append(Fraction(*point[things[0]]))
-        else:
-            one, other = values[things[0]], values[things[1]]
-            values.append({"plus": lambda: one + other, "less": lambda: one - other,
-                           "times": lambda: one * other, "over": lambda: one / other}[word]())
-    return [algebra.pair(value) for value in values]
 
 
 class Running(unittest.TestCase):
@@ -58,7 +44,7 @@ class Running(unittest.TestCase):
                 rows.append(("number", algebra.some_fraction(chance, 9)) if word == "number" else row)
             one = (("x", "y", "z"), tuple(rows))
             try:
-                told = plain_run(one, point)
+                told = [algebra.pair(f) for f in plain_run(one, point)]
             except ZeroDivisionError:
                 with self.assertRaises(NoOver):
                     run(one, point)

@@ -170,12 +170,7 @@ class InTime(unittest.TestCase):
 
     def test_of_many_rows(self):
         began = time.monotonic()
-        rows = [("letter", 0), ("letter", 1), ("letter", 2), ("number", (999983, 999979)), ("plus", 0, 3),
-                ("plus", 4, 1), ("plus", 5, 2), ("over", 6, 5), ("less", 6, 4), ("over", 8, 7), ("times", 7, 5),
-                ("plus", 10, 3), ("over", 11, 9), ("over", 9, 4), ("plus", 10, 9), ("over", 14, 7), ("over", 15, 10),
-                ("plus", 16, 8), ("times", 17, 5), ("plus", 16, 11), ("over", 17, 12), ("over", 20, 11),
-                ("less", 18, 5), ("times", 20, 7)]
-        new, paper = undivided((("x", "y", "z"), tuple(rows)), ((-997, 991), (983, 977), (971, 967)), 8)
+        new, paper = undivided(makings.MANY, makings.MANY_POINT, 8)
         self.assertLess(time.monotonic() - began, 2)
         self.assertEqual(degree(polynomial_of(new)), 8)
         self.assertLess(time.monotonic() - began, 10)
