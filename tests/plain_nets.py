@@ -1,4 +1,4 @@
-"""Nets that tests are made of, and their polynomials as point 21 tells them, over dicts of Fraction."""
+"""Nets that tests are made of, and their polynomials and shares as points 21 and 23 tell them, over dicts of Fraction."""
 
 from fractions import Fraction
 
@@ -33,6 +33,22 @@ def plain_polys(net):
     return told
 
 
+def plain_share(net, polys, u, v):
+    """The share of v in u, just as point 23 tells it, as a dict."""
+    if u == v:
+        return algebra.number(1, len(net[0]))
+    word, *things = net[1][u]
+    if word == "letter":
+        return {}
+    if word == "times":
+        return algebra.multiplied(plain_share(net, polys, things[0], v), polys[things[1]])
+    total = {}
+    for f, part in things[0]:
+        own = plain_share(net, polys, part, v)
+        total = algebra.added(total, {powers: g * Fraction(*f) for powers, g in own.items()})
+    return total
+
+
 def some_net(chance, most_nodes=14, most_degree=6):
     """Some net, made by hand."""
     letters = ("x", "y", "z")[:chance.randint(1, 3)]
@@ -57,3 +73,25 @@ def some_net(chance, most_nodes=14, most_degree=6):
     for k in range(1, chance.randint(1, most_degree + 1)):
         outs.append(chance.choice([None] + [at for at, own in enumerate(reached) if own == k]))
     return (letters, tuple(nodes), (algebra.some_fraction(chance, 5), tuple(outs)))
+
+
+def rich_net(chance, most_nodes=20, most_degree=6):
+    """Some net of many products, most of them needed."""
+    letters = ("x", "y", "z")[:chance.randint(1, 3)]
+    nodes = [("letter", k) for k in range(len(letters))]
+    reached = [1] * len(letters)
+    while len(nodes) < most_nodes:
+        one, other = sorted((chance.randrange(len(nodes)), chance.randrange(len(nodes))), key=lambda at: -reached[at])
+        if chance.random() < 0.4:
+            like = [at for at, k in enumerate(reached) if k == reached[one]]
+            parts = sorted(chance.sample(like, chance.randint(1, min(4, len(like)))))
+            nodes.append(("mix", tuple((chance.choice((ONE, (-1, 1), HALF, (-3, 1))), at) for at in parts)))
+            reached.append(reached[one])
+        elif reached[one] + reached[other] <= most_degree:
+            nodes.append(("times", one, other))
+            reached.append(reached[one] + reached[other])
+    outs = []
+    for k in range(1, max(reached) + 1):
+        like = [at for at, own in enumerate(reached) if own == k]
+        outs.append(chance.choice(like) if like and chance.random() < 0.9 else None)
+    return (letters, tuple(nodes), (chance.choice(((0, 1), (2, 3))), tuple(outs)))

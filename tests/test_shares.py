@@ -7,27 +7,11 @@ from random import Random
 
 import algebra
 import makings
-from plain_nets import HALF, NET, NODES, ONE, of, plain_polys, some_net
+from plain_nets import HALF, NET, NODES, ONE, of, plain_polys, plain_share, some_net
 from undivide.nets import degrees
 from undivide.netted import net_of
 from undivide.shares import border, share
 from undivide.texts import read_reckoning
-
-
-def plain_share(net, polys, u, v):
-    """Just as the point tells it."""
-    if u == v:
-        return algebra.number(1, len(net[0]))
-    word, *things = net[1][u]
-    if word == "letter":
-        return {}
-    if word == "times":
-        return algebra.multiplied(plain_share(net, polys, things[0], v), polys[things[1]])
-    total = {}
-    for f, part in things[0]:
-        own = plain_share(net, polys, part, v)
-        total = algebra.added(total, {powers: g * Fraction(*f) for powers, g in own.items()})
-    return total
 
 
 def told_nets():

@@ -5,7 +5,7 @@ A product is the tuple of its marks, sorted; () is that of none, so that a numbe
 Where there are letters alone a product may as well be told by its powers, as in polynomials.
 """
 
-from undivide.fractions import common_factor, fraction
+from undivide.fractions import ONE, common_factor, fraction
 from undivide.polys import powers_plus
 
 LETTER = -1
@@ -49,11 +49,12 @@ def mark_form(mark):
     return Form({(mark,): 1}, 1, ROOM)
 
 
-def form_sum(one, other, sign):
-    """The first form and the second one times sign, added."""
-    factor = common_factor(one.beneath, other.beneath)
-    first = other.beneath // factor
-    second = one.beneath // factor * sign
+def form_sum(one, other, f):
+    """The first form and the second one times a fraction, added."""
+    beneath = other.beneath * f[1]
+    factor = common_factor(one.beneath, beneath)
+    first = beneath // factor
+    second = one.beneath // factor * f[0]
     sums = {product: many * first for product, many in one.numbers.items()}
     for product, many in other.numbers.items():
         sums[product] = sums.get(product, 0) + many * second
@@ -62,12 +63,12 @@ def form_sum(one, other, sign):
 
 def form_plus(one, other):
     """The sum of two forms."""
-    return form_sum(one, other, 1)
+    return form_sum(one, other, ONE)
 
 
 def form_less(one, other):
     """The first form less the second."""
-    return form_sum(one, other, -1)
+    return form_sum(one, other, (-1, 1))
 
 
 def form_times(one, other):

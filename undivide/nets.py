@@ -1,7 +1,7 @@
 """Nets: tuples (letters, nodes, top) of pieces by degrees, each node a letter, a mix or a product."""
 
 from undivide.errors import BadNode
-from undivide.forms import form_plus, fractions_of, letter_by_powers, number_by_powers, times_by_powers
+from undivide.forms import form_plus, form_sum, fractions_of, letter_by_powers, number_by_powers, times_by_powers
 from undivide.fractions import NOUGHT, is_fraction
 from undivide.reckonings import is_place, look_letters
 
@@ -88,7 +88,7 @@ def mix_form(pairs, forms, many_letters):
     """The sum of a mix's parts, each with its fraction, by the forms of the nodes ahead."""
     told = number_by_powers(NOUGHT, many_letters)
     for f, node in pairs:
-        told = form_plus(told, times_by_powers(number_by_powers(f, many_letters), forms[node]))
+        told = form_sum(told, forms[node], f)
     return told
 
 
