@@ -63,6 +63,17 @@ def form_times(one, other):
     return {product: f for product, f in told.items() if f}
 
 
+def row_form(word, things, forms):
+    """The form of a new row, no over, by those of the rows ahead."""
+    if word == "number":
+        return {(): Fraction(*things[0])} if things[0][0] else {}
+    if word == "letter":
+        return {(("letter", things[0]),): Fraction(1)}
+    if word == "times":
+        return form_times(forms[things[0]], forms[things[1]])
+    return algebra.added(forms[things[0]], forms[things[1]], 1 if word == "plus" else -1)
+
+
 class PlainRules:
     """The rules of all marks of a reckoning at a good point."""
 
@@ -121,14 +132,7 @@ def plain_refusal(reckoning, point, most, new, paper):
     for at, (word, *things) in enumerate(rows):
         if word == "over":
             return at
-        if word == "number":
-            form = rules.number(Fraction(*things[0]))
-        elif word == "letter":
-            form = {(("letter", things[0]),): Fraction(1)}
-        elif word == "times":
-            form = form_times(forms[things[0]], forms[things[1]])
-        else:
-            form = algebra.added(forms[things[0]], forms[things[1]], 1 if word == "plus" else -1)
+        form = row_form(word, things, forms)
         if len(form) > 80 or any(len(product) > 4 for product in form):
             return at
         if paper[at] is not None:

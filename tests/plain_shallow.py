@@ -4,7 +4,7 @@ from fractions import Fraction
 
 import algebra
 from plain_nets import plain_polys, plain_share
-from plain_papers import form_times
+from plain_papers import form_times, row_form
 
 
 def degrees_of(net):
@@ -80,14 +80,7 @@ def plain_shallow_refusal(net, reckoning, paper):
     for at, (word, *things) in enumerate(rows):
         if word == "over":
             return at
-        if word == "number":
-            form = {(): Fraction(*things[0])} if things[0][0] else {}
-        elif word == "letter":
-            form = {(("letter", things[0]),): Fraction(1)}
-        elif word == "times":
-            form = form_times(forms[things[0]], forms[things[1]])
-        else:
-            form = algebra.added(forms[things[0]], forms[things[1]], 1 if word == "plus" else -1)
+        form = row_form(word, things, forms)
         if len(form) > 300 or any(len(product) > 6 for product in form):
             return at
         if paper[at] is not None:

@@ -1,6 +1,7 @@
-"""Webs that tests are made of, and what they stand for by the plain definition, over dicts of Fraction."""
+"""Webs and tables that tests are made of, and what they come to by the plain definitions, over dicts of Fraction."""
 
 from fractions import Fraction
+from itertools import permutations
 
 import algebra
 
@@ -48,3 +49,47 @@ def some_web(chance, dots, share=0.5):
 def line(dots, entry, letters=("x",)):
     """A web of one walk by all dots."""
     return (letters, dots, tuple((at, at + 1, entry) for at in range(dots - 1)))
+
+
+def plain_table(table):
+    """The signed sum of products, order by order, as told."""
+    letters, rows = table
+    many, places = len(letters), range(len(rows))
+    total = {}
+    for order in permutations(places):
+        odd = sum(order[one] > order[other] for one in places for other in range(one + 1, len(rows))) % 2
+        part = algebra.number(1, many)
+        for row, column in zip(rows, order):
+            part = algebra.multiplied(part, entry_terms(row[column], many))
+        total = algebra.added(total, part, -1 if odd else 1)
+    return algebra.told(total)
+
+
+def some_table(chance, size, noughts=0.2, most=4):
+    """Some table of so many rows, with this share of noughts, some of them noughts of letters."""
+    letters = ("x", "y", "z")[:chance.randint(1, 3)]
+    many = len(letters)
+    rows = []
+    for _ in range(size):
+        rows.append(tuple(((0, 1), chance.choice([None] + list(range(many)))) if chance.random() < noughts
+                          else some_entry(chance, many, most) for _ in range(size)))
+    return (letters, tuple(rows))
+
+
+def table_at(table, point):
+    """A table's signed sum at a point, by exchanging and taking off rows."""
+    rows = [[Fraction(*f) * (1 if k is None else Fraction(*point[k])) for f, k in row] for row in table[1]]
+    told = Fraction(1)
+    for at in range(len(rows)):
+        found = [k for k in range(at, len(rows)) if rows[k][at]]
+        if not found:
+            return Fraction(0)
+        if found[0] != at:
+            rows[at], rows[found[0]] = rows[found[0]], rows[at]
+            told = -told
+        told *= rows[at][at]
+        for k in range(at + 1, len(rows)):
+            if rows[k][at]:
+                part = rows[k][at] / rows[at][at]
+                rows[k] = [a - part * b for a, b in zip(rows[k], rows[at])]
+    return told

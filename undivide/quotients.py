@@ -102,7 +102,8 @@ def runs_at(reckoning, point):
 def good_point(reckoning):
     """The first point of whole numbers from 0 on at which a reckoning runs; refused where none can be."""
     # One that isn't good runs nowhere, so it is to be refused ahead of the search.
-    quotients(reckoning)
+    if not is_whole(reckoning):
+        quotients(reckoning)
     greatest = 0
     while True:
         for point in whole_points(len(reckoning[0]), greatest):

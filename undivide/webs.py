@@ -54,12 +54,16 @@ def walked_ways(web):
     return [way for way in ways if way[0] in reached and way[1] in leading]
 
 
+def by_letter(form, letter, many_letters):
+    """A form by powers times a letter, or itself where that is None."""
+    return form if letter is None else times_by_powers(form, letter_by_powers(letter, many_letters))
+
+
 def dot_form(parts, many_letters):
     """The sum of forms by powers, in a dict by the letters that they are to be multiplied by, or None."""
     told = number_by_powers(NOUGHT, many_letters)
     for letter, form in parts.items():
-        by_letter = form if letter is None else times_by_powers(form, letter_by_powers(letter, many_letters))
-        told = form_plus(told, by_letter)
+        told = form_plus(told, by_letter(form, letter, many_letters))
     return told
 
 
