@@ -282,7 +282,8 @@ class NoRows(Desks):
                     # Whatever the names are, kept or none at all.
                     for name in ("sum", "gone", "9", "X"):
                         self.none(" ".join([word] + [name] * count))
-        self.none("run", "keep", "keep new", "keep new ", "keep 9", "keep X ", "keep sum", "keep sum ")
+        self.none("run", "run ", "run  ", "run gone ", "run 9 ", "run  sum", "run gone  1", "run 9 1 ")
+        self.none("keep", "keep new", "keep new ", "keep 9", "keep X ", "keep sum", "keep sum ")
 
     def test_line_feeds(self):
         for row in ("show sum", "run quot 1 2", "point quot", "undivide new sum", "part sum quot"):
@@ -305,16 +306,26 @@ class NoNames(Desks):
     def test_names_that_are_none(self):
         for name in ("9", "X", "aB", "a1234567", "abcdefg", "letters", "part", "rounds", "end", "give", "a_b", "a;b", "-", "/",
                      "1/2", "sum;", ";", "a\t", "a,b"):
-            self.no_name(name, f"show {name}", f"run {name} 1", f"run {name} x y z u", f"point {name}", f"poly {name}",
-                         f"count {name}", f"keep {name} letters x;give x", f"keep {name} what", f"undivide {name} sum",
+            self.no_name(name, f"show {name}", f"run {name}", f"run {name} 1", f"run {name} x y z u", f"point {name}",
+                         f"poly {name}", f"count {name}", f"keep {name} letters x;give x", f"keep {name} what", f"undivide {name} sum",
                          f"shallow {name} sum", f"undivide new {name}", f"shallow new {name}", f"part {name} sum",
                          f"part sum {name}", f"part {name} {name}")
 
     def test_names_by_which_nothing_is_kept(self):
         for name in ("gone", "a", "sums", "su", "x", "r2"):
-            self.no_name(name, f"show {name}", f"run {name} 1", f"run {name} x y z u", f"point {name}", f"poly {name}",
-                         f"count {name}", f"undivide new {name}", f"shallow new {name}", f"undivide {name} {name}",
+            self.no_name(name, f"show {name}", f"run {name}", f"run {name} 1", f"run {name} x y z u", f"point {name}",
+                         f"poly {name}", f"count {name}", f"undivide new {name}", f"shallow new {name}", f"undivide {name} {name}",
                          f"part {name} sum", f"part sum {name}", f"shallow sum {name}")
+
+    def test_run_ahead_of_how_many_words(self):
+        """On a desk that keeps nothing, too, as on one that keeps other names."""
+        empty = Desk()
+        for name in ("f0e", "9a", "gone", "X", "run", "end"):
+            for words in ("", " 1", " x", " 1 2", " 1 2 3 4 5"):
+                self.no_name(name, f"run {name}{words}")
+                with self.assertRaises(NoName) as kept:
+                    empty.say(f"run {name}{words}")
+                self.assertEqual(kept.exception.name, name)
 
     def test_from_the_left(self):
         self.no_name("gone", "part gone lost", "part gone 9", "part sum gone", "undivide new gone")

@@ -101,9 +101,10 @@ DEEDS = {
     "keep": keep_text, "show": show_kept, "run": run_kept, "point": tell_point, "poly": tell_poly,
     "undivide": keep_undivided, "shallow": keep_shallow, "part": tell_parted, "count": tell_count,
 }
-# What stands behind a row's first word: a name to keep by, a name that is kept, a text, or fractions, one at least.
+# What stands behind a row's first word: a name to keep by, a name that is kept, or a text. The fractions of a run
+# aren't told here: how many are due hangs on what is kept, so they are counted behind the look at the names.
 FORMS = {
-    "keep": ("new", "text"), "show": ("kept",), "run": ("kept", "fractions"), "point": ("kept",), "poly": ("kept",),
+    "keep": ("new", "text"), "show": ("kept",), "run": ("kept",), "point": ("kept",), "poly": ("kept",),
     "undivide": ("new", "kept"), "shallow": ("new", "kept"), "part": ("kept", "kept"), "count": ("kept",),
 }
 
